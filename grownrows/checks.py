@@ -1,15 +1,15 @@
 """The checks that several modules make of what they are passed."""
 
-from grownrows.errors import InvalidNumber, InvalidRow, InvalidStretch
+from grownrows.errors import InvalidNumber, InvalidRow, InvalidStretch, InvalidValue
 
 
 def check_row(prime, row):
     """Raise InvalidRow for the first tuple that cannot stand where it does in a row of values below the prime."""
-    for number, (place, value) in enumerate(row):
-        if not 0 < value < prime:
+    number = before = 0
+    for place, value in row:
+        if not 0 < value < prime or (number > 0 and place <= before):
             raise InvalidRow(number)
-        if number > 0 and place <= row[number - 1][0]:
-            raise InvalidRow(number)
+        number, before = number + 1, place
 
 
 def check_number(number):
@@ -22,3 +22,9 @@ def check_stretch(low, high):
     """Raise InvalidStretch for a stretch that ends before it begins."""
     if low > high:
         raise InvalidStretch((low, high))
+
+
+def check_value(prime, value, least):
+    """Raise InvalidValue for a value that is not from the least one to the prime less 1."""
+    if not least <= value < prime:
+        raise InvalidValue(value)

@@ -1,6 +1,7 @@
 """Rules and rows for the tests, and a second, plain way to the same answers."""
 
 from grownrows.errors import GrowthError
+from grownrows.rows import ends_of
 from grownrows.rules import Rule
 
 FAR = 10 ** 30
@@ -8,6 +9,8 @@ FARTHEST = 10 ** 31
 
 PAIRS = (2, [(1, 0), (1, 1)])
 THREE = (2, [(1, -1), (1, 0), (1, 1)])
+
+POWERS = {2: 2 ** 99, 3: 3 ** 62, 5: 5 ** 42}
 
 # Prime and terms: all three primes, one term and several, near offsets and the outermost ones.
 SAMPLES = [
@@ -43,6 +46,18 @@ def begins(prime, middle=0):
     ]
 
 
+def far_numbers(prime):
+    """Return far numbers of rows: at the bounds, and powers of the prime and the numbers beside them."""
+    power = POWERS[prime]
+    return [FAR, FARTHEST, power - 1, power, power + 1, 2 * power, (power - 1) // (prime - 1), FAR // 7]
+
+
+def far_lows(rule, row, number):
+    """Return low places of stretches of a row: about the ends, at the begin and in between."""
+    first, last = ends_of(rule, row, number)
+    return [first - 5, last - 10, row[0][0] - 3, (first + last) // 2, first + (last - first) // 3]
+
+
 def plain_rows(prime, terms, row, number):
     """Return the rows up to a number as dicts, each cell asked what its neighbours give to it."""
     rows = [dict(row)]
@@ -60,6 +75,21 @@ def plain_rows(prime, terms, row, number):
 def row_of(cells):
     """Return the row of a dict of cells."""
     return sorted((place, value) for place, value in cells.items() if value)
+
+
+def moved(row, by):
+    """Return a row with all places greater by a number."""
+    return [(place + by, value) for place, value in row]
+
+
+def turned(row):
+    """Return a row with all places of the other sign."""
+    return row_of({-place: value for place, value in row})
+
+
+def gaps_of(row):
+    """Return the tuples (length, place) of the gaps of a row, from the left."""
+    return [(behind - before - 1, before + 1) for (before, _), (behind, _) in zip(row, row[1:]) if behind > before + 1]
 
 
 def added(prime, row, other_row):

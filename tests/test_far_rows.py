@@ -4,21 +4,8 @@ import unittest
 
 from grownrows.rows import cell_at, cells_between, ends_of, rows_until
 from grownrows.rules import Rule
-from samples import FAR, FARTHEST, PAIRS, added, begins, binomial, plain_rows, row_of, rules
-
-POWERS = {2: 2 ** 99, 3: 3 ** 62, 5: 5 ** 42}
-
-
-def far_numbers(prime):
-    """Return far numbers of rows: at the bounds, and powers of the prime and the numbers beside them."""
-    power = POWERS[prime]
-    return [FAR, FARTHEST, power - 1, power, power + 1, 2 * power, (power - 1) // (prime - 1), FAR // 7]
-
-
-def far_lows(rule, row, number):
-    """Return low places of stretches of a row: about the ends, at the begin and in between."""
-    first, last = ends_of(rule, row, number)
-    return [first - 5, last - 10, row[0][0] - 3, (first + last) // 2, first + (last - first) // 3]
+from samples import (FAR, FARTHEST, PAIRS, POWERS, added, begins, binomial, far_lows, far_numbers, plain_rows, row_of,
+                     rules)
 
 
 class FarCellsTest(unittest.TestCase):
