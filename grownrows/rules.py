@@ -36,13 +36,17 @@ class Rule:
     def next_row(self, row):
         """Return the row after a step."""
         check_row(self._prime, row)
-        sums = {}
-        for place, value in row:
-            for coefficient, offset in self._terms:
-                taker = place + offset
-                sums[taker] = sums.get(taker, 0) + coefficient * value
-        remainders = [(place, sums[place] % self._prime) for place in sorted(sums)]
-        return [(place, value) for place, value in remainders if value != 0]
+        return grown_once(self._prime, self._terms, row)
+
+
+def grown_once(prime, terms, row):
+    """Return the row after a step of a row that is right, by the terms of a rule."""
+    sums = {}
+    for place, value in row:
+        for coefficient, offset in terms:
+            taker = place + offset
+            sums[taker] = sums.get(taker, 0) + coefficient * value
+    return [(place, sums[place] % prime) for place in sorted(sums) if sums[place] % prime != 0]
 
 
 def alike_behind(rule, other_rule):
