@@ -19,10 +19,10 @@ class Blocks:
 
     def __init__(self, growth, row, number):
         begin, end = row[0][0], row[-1][0]
-        self.size = _size_for(growth.prime, end - begin - growth.width)
+        self.size = _size_for(growth.modulus, end - begin - growth.width)
         self.upper, lower = divmod(number, self.size)
         self.first = begin + number * growth.least
-        self._prime = growth.prime
+        self._prime = growth.modulus
         self._ones = ones_for(self.size)
         lanes = growth.grown(lanes_of([(place - begin, value) for place, value in row]), end - begin + 1, lower)
         step = LANE * self.size

@@ -86,12 +86,12 @@ class Census:
         steps, text, rest = self._tree.path(index)
         for tallies, (blocks, at) in zip(self._tallies[1:], steps):
             found += sum([self._many_in(tallies, block, value) for block in blocks[:at]])
-            value = quotient(self._tree.prime, value, blocks[at][0])
+            value = quotient(self._tree.modulus, value, blocks[at][0])
         return found + self._wheel.many(self._wheel.tally(text[:rest]), value)
 
     def place_of(self, value, index):
         """Return the place of the cell with an index among those with a value, of which there are more."""
-        prime, place, size = self._tree.prime, self._tree.first, self._tree.size
+        prime, place, size = self._tree.modulus, self._tree.first, self._tree.size
         window = ROOT
         for level, tallies in zip(self._tree.levels, self._tallies[1:]):
             blocks = level[window]
@@ -108,4 +108,4 @@ class Census:
     def _many_in(self, tallies, block, value):
         """Return how many cells of a block have a value."""
         factor, window = block
-        return self._wheel.many(tallies[window], quotient(self._tree.prime, value, factor))
+        return self._wheel.many(tallies[window], quotient(self._tree.modulus, value, factor))

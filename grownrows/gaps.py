@@ -91,7 +91,7 @@ def _cells_beside(tree, index):
         before.extend([start + number * size + told[number][1] for number in range(at) if told[number] is not None])
         behind.extend([start + number * size + told[number][0] for number in range(at + 1, len(blocks))
                        if told[number] is not None])
-        start, size = start + at * size, size // tree.prime
+        start, size = start + at * size, size // tree.modulus
     lit = [start + cell for cell, digit in enumerate(text) if digit != "0"]
     before.extend([cell for cell in lit if cell <= index])
     behind.extend([cell for cell in lit if cell >= index])

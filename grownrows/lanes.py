@@ -48,11 +48,14 @@ def remainders(prime, sums, ones):
 
 
 class Growth:
-    """A rule for cells in lanes: its least offset is taken as 0, so that indexes are never negative."""
+    """A rule for cells in lanes: its least offset is taken as 0, so that indexes are never negative.
+
+    modulus is the prime of the rule, least its least offset, and width the greatest one less that.
+    """
 
     def __init__(self, rule):
         terms = rule.terms
-        self.prime = rule.prime
+        self.modulus = rule.prime
         self.least = terms[0][1]
         self.width = terms[-1][1] - self.least
         self._steps = [(offset - self.least, coefficient) for coefficient, offset in terms]
@@ -67,9 +70,9 @@ class Growth:
         ones = ones_for(length + number * self.width)
         distance = 1
         while number > 0:
-            number, digit = divmod(number, self.prime)
+            number, digit = divmod(number, self.modulus)
             pattern = self.pattern(distance)
             for _ in range(digit):
-                lanes = remainders(self.prime, lanes * pattern, ones)
-            distance = distance * self.prime
+                lanes = remainders(self.modulus, lanes * pattern, ones)
+            distance = distance * self.modulus
         return lanes

@@ -81,7 +81,7 @@ def _thin_rows(rule, row, most):
 def _thick_rows(rule, row, many):
     """Return the list of the next rows, as many as told, of a row other than zeros."""
     growth = Growth(rule)
-    prime, pattern = growth.prime, growth.pattern()
+    prime, pattern = growth.modulus, growth.pattern()
     begin = row[0][0]
     lanes = lanes_of([(place - begin, value) for place, value in row])
     ones = ones_for(row[-1][0] - begin + 1 + many * growth.width)

@@ -70,7 +70,7 @@ class BeginSplits:
     """
 
     def __init__(self, growth):
-        self._prime = growth.prime
+        self._prime = growth.modulus
         self._width = growth.width
         self._pattern = growth.pattern()
         self._kept = {}

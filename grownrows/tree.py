@@ -23,15 +23,15 @@ class Tree:
         growth = Growth(rule)
         blocks = Blocks(growth, row, number)
         splits = WindowSplits(growth)
-        self.prime = growth.prime
+        self.modulus = growth.modulus
         self.first = blocks.first
         self.size = self._least_size = blocks.size
         # Row 0 of a single 1 is that 1, and each window has it in another place.
         width = growth.width
         self.levels = [{ROOT: [(1, "0" * (width - at) + "1" + "0" * at) for at in range(width + 1)]}]
-        for digit in _digits(growth.prime, blocks.upper):
+        for digit in _digits(growth.modulus, blocks.upper):
             self.levels.append({window: splits.blocks(window, digit) for window in _windows_in(self.levels[-1])})
-            self.size = self.size * growth.prime
+            self.size = self.size * growth.modulus
         self.length = self.size * (width + 1)
         self.texts = {window: blocks.text(window) for window in _windows_in(self.levels[-1])}
 
@@ -46,7 +46,7 @@ class Tree:
         for level in reversed(self.levels):
             told = _joined(level, told, join, size)
             all_told.append(told)
-            size = size * self.prime
+            size = size * self.modulus
         return all_told[::-1]
 
     def path(self, index):
@@ -60,7 +60,7 @@ class Tree:
             blocks = level[window]
             at, index = divmod(index, size)
             steps.append((blocks, at))
-            window, size = blocks[at][1], size // self.prime
+            window, size = blocks[at][1], size // self.modulus
         return (steps, self.texts[window], index)
 
 
@@ -68,11 +68,11 @@ class WindowSplits:
     """How a window of row n of a single 1 tells windows of row prime * n + digit, those of the blocks in its block."""
 
     def __init__(self, growth):
-        self._prime = growth.prime
+        self._prime = growth.modulus
         self._width = growth.width
-        self._length = growth.width + growth.prime
+        self._length = growth.width + growth.modulus
         self._ones = ones_for(self._length)
-        self._powers = [growth.grown(1, 1, digit) for digit in range(growth.prime)]
+        self._powers = [growth.grown(1, 1, digit) for digit in range(growth.modulus)]
         self._kept = {}
 
     def blocks(self, window, digit):
