@@ -34,6 +34,7 @@ class Wheel:
     def __init__(self, prime, parts, most):
         """Make a wheel for at most so many cells."""
         bits = most.bit_length()
+        self.modulus = prime
         self._part = (1 << bits) - 1
         self._all_bits = parts * bits
         self._shifts = [exponent % parts * bits for exponent in EXPONENTS[prime]]

@@ -76,3 +76,7 @@ class Growth:
                 lanes = remainders(self.modulus, lanes * pattern, ones)
             distance = distance * self.modulus
         return lanes
+
+    def first_rows(self):
+        """Return the list of the lanes of the rows of a single 1 with numbers below the prime."""
+        return [self.grown(1, 1, number) for number in range(self.modulus)]

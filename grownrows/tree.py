@@ -72,7 +72,7 @@ class WindowSplits:
         self._width = growth.width
         self._length = growth.width + growth.modulus
         self._ones = ones_for(self._length)
-        self._powers = [growth.grown(1, 1, digit) for digit in range(growth.modulus)]
+        self._first_rows = growth.first_rows()
         self._kept = {}
 
     def blocks(self, window, digit):
@@ -83,8 +83,9 @@ class WindowSplits:
         return self._kept[key]
 
     def _worked_out(self, window, digit):
+        """Return the list of the tuples of blocks, not kept before."""
         prime, width, length = self._prime, self._width, self._length
-        lanes = lanes_of_text(window, prime) * self._powers[digit]
+        lanes = lanes_of_text(window, prime) * self._first_rows[digit]
         # The last cell of the window becomes the last one of the first new window, and the new ones, as many as the
         # prime, lie side by side. So the first of their cells lies a width before it.
         lanes = (lanes >> (LANE * width * (prime - 1))) & ((1 << LANE * length) - 1)

@@ -72,6 +72,12 @@ def plain_rows(prime, terms, row, number):
     return rows
 
 
+def plain_seen(prime, terms, row, place, drift, number):
+    """Return the list of what a watcher sees in the rows up to a number."""
+    rows = plain_rows(prime, terms, row, number)
+    return [cells.get(place + drift * at, 0) for at, cells in enumerate(rows)]
+
+
 def row_of(cells):
     """Return the row of a dict of cells."""
     return sorted((place, value) for place, value in cells.items() if value)
@@ -85,6 +91,21 @@ def moved(row, by):
 def turned(row):
     """Return a row with all places of the other sign."""
     return row_of({-place: value for place, value in row})
+
+
+def times(prime, row, factor):
+    """Return a row with all values multiplied by a factor."""
+    return [(place, value * factor % prime) for place, value in row]
+
+
+def spread(prime, terms, row, power):
+    """Return the row after as many steps as a power of the prime, by what each cell gives then."""
+    cells = {}
+    for place, value in row:
+        for coefficient, offset in terms:
+            taker = place + offset * power
+            cells[taker] = (cells.get(taker, 0) + coefficient * value) % prime
+    return row_of(cells)
 
 
 def gaps_of(row):
