@@ -79,4 +79,8 @@ class Growth:
 
     def first_rows(self):
         """Return the list of the lanes of the rows of a single 1 with numbers below the prime."""
-        return [self.grown(1, 1, number) for number in range(self.modulus)]
+        ones, pattern = ones_for(self.modulus * self.width + 1), self.pattern()
+        rows = [1]
+        for _ in range(1, self.modulus):
+            rows.append(remainders(self.modulus, rows[-1] * pattern, ones))
+        return rows

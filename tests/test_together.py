@@ -239,8 +239,8 @@ class WatchersTogetherTest(unittest.TestCase):
                                  [view.first_seen(value) for value in range(prime)])
 
     def test_watchers_that_part_and_three_together(self):
-        for prime, rule_terms in ((2, [(1, -1), (1, 0), (1, 1)]), (3, [(2, 0), (1, 1)]), (5, [(1, -1), (3, 0), (4, 1)])):
-            rule, row = Rule(prime, rule_terms), [(0, 1), (3, prime - 1)]
+        for prime, terms in ((2, [(1, -1), (1, 0), (1, 1)]), (3, [(2, 0), (1, 1)]), (5, [(1, -1), (3, 0), (4, 1)])):
+            rule, row = Rule(prime, terms), [(0, 1), (3, prime - 1)]
             views = [View(rule, row, place, drift) for place in (-2, 0, 7, 19) for drift in (0, 1)]
             for at, view in enumerate(views):
                 for other_view in views[at + 1:]:

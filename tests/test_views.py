@@ -5,7 +5,7 @@ import unittest
 from grownrows.errors import InvalidNumber, InvalidRow, InvalidValue
 from grownrows.rules import Rule
 from grownrows.views import View
-from samples import FAR, FARTHEST, PAIRS, SAMPLES, THREE, begins, moved, plain_seen, raised, rules, turned
+from samples import FAR, FARTHEST, PAIRS, SAMPLES, THREE, begins, plain_seen, raised, rules
 from test_rows import WRONG_ROWS
 
 
@@ -113,41 +113,34 @@ class SeenTest(unittest.TestCase):
 
 class FirstSeenTest(unittest.TestCase):
 
+    def first_rows(self, rule, row, place, drift, number):
+        """Compare the first rows of all values with the rows up to a number, and return the list of them."""
+        seen = plain_seen(rule.prime, rule.terms, row, place, drift, number)
+        view = View(rule, row, place, drift)
+        told = [view.first_seen(value) for value in range(rule.prime)]
+        for value, first in enumerate(told):
+            with self.subTest(terms=rule.terms, row=row, place=place, drift=drift, value=value):
+                if value in seen:
+                    self.assertEqual(first, seen.index(value))
+                elif first is not None:
+                    self.assertGreater(first, number)
+                    self.assertEqual(view.seen(first), value)
+        return told
+
     def test_near_rows(self):
-        for rule, (prime, terms) in zip(rules(), SAMPLES):
-            for row in [[]] + begins(prime):
+        for rule in rules():
+            for row in [[]] + begins(rule.prime):
                 for place, drift in watchers(rule):
-                    seen = plain_seen(prime, terms, row, place, drift, 30)
-                    view = View(rule, row, place, drift)
-                    for value in range(prime):
-                        first = view.first_seen(value)
-                        with self.subTest(terms=terms, row=row, place=place, drift=drift, value=value):
-                            if value in seen:
-                                self.assertEqual(first, seen.index(value))
-                            elif first is not None:
-                                self.assertGreater(first, 30)
-                                self.assertEqual(view.seen(first), value)
+                    self.first_rows(rule, row, place, drift, 30)
 
     def test_later_rows_and_values_that_are_never_seen(self):
-        late = never = 0
-        for rule, (prime, terms) in zip(rules(), SAMPLES):
-            for row in (begins(prime)[0], begins(prime)[2]):
+        told = []
+        for rule in rules():
+            for row in (begins(rule.prime)[0], begins(rule.prime)[2]):
                 for place, drift in ((40, 0), (100, 0), (-90, 0), (70, 1)):
-                    seen = plain_seen(prime, terms, row, place, drift, 150)
-                    view = View(rule, row, place, drift)
-                    for value in range(prime):
-                        first = view.first_seen(value)
-                        with self.subTest(terms=terms, row=row, place=place, drift=drift, value=value):
-                            if value in seen:
-                                self.assertEqual(first, seen.index(value))
-                                late += first > 30
-                            elif first is None:
-                                never += 1
-                            else:
-                                self.assertGreater(first, 150)
-                                self.assertEqual(view.seen(first), value)
-        self.assertGreater(late, 10)
-        self.assertGreater(never, 10)
+                    told += self.first_rows(rule, row, place, drift, 150)
+        self.assertGreater(len([first for first in told if first is not None and first > 30]), 10)
+        self.assertGreater(told.count(None), 10)
 
     def test_values_that_are_never_seen(self):
         pairs = Rule(*PAIRS)
